@@ -1,0 +1,1 @@
+"""Plansamid: asks over tables whose plans are changed amid their run."""

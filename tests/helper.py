@@ -1,0 +1,180 @@
+"""What several tests use: things of all kinds, refusals caught, asks and tables made by the dozen."""
+
+import itertools
+
+
+def deep(levels, inner=0):
+    thing = inner
+    for _ in range(levels):
+        thing = (thing,)
+    return thing
+
+
+# Whatever may be handed in where a form is asked for, and is none of them.
+THINGS = [
+    None, True, False, 0, 1, -1, 7, 10 ** 99, -(10 ** 99), "", "a", "cell", "table", "lacking",
+    "with", "\n", "x" * 30000, (), [], {}, (None,), [None], ((),), ([],), ({},), ("",), ("a",),
+    ("cell",), ("number",), ("lacking",), ("table",), (True, False), (1, 2, 3), ["a", "b", "c"],
+    {"a": 1}, {"a": {"b": [()]}}, {("a", "b"): 1}, ({}, {}, {}), ([], [], []), (None, None, None),
+    ((), (), (), (), (), ()), [[], [], [], [], [], []], deep(20), deep(20, "a"), tuple(range(1900)),
+    ["a"] * 1900, ("a", "b", "c", "d", "e", "f"), {0: (), 1: []}, (("cell", "a", "b"),),
+]
+
+
+def refusal(do, *args, **more):
+    """The refusal that comes of it, or None."""
+    try:
+        do(*args, **more)
+    except (ValueError, KeyError) as error:
+        return error
+    return None
+
+
+def places_key(places):
+    """By which places stand in order: None ahead of all numbers."""
+    return [(number is not None, number or 0) for number in places]
+
+
+# A part is told here by plain Python, with a string for a refusal, to hold the program against it.
+def worth_of(part, look):
+    if part[0] == "cell":
+        return look[part[1:]]
+    if part[0] == "number":
+        return part[1]
+    first, second = worth_of(part[1], look), worth_of(part[2], look)
+    if "fault" in (first, second):
+        return "fault"
+    if None in (first, second):
+        return None
+    if part[0] == "over":
+        if second == 0:
+            return "fault"
+        quotient = abs(first) // abs(second)
+        if (first < 0) == (second < 0):
+            return quotient
+        return -quotient - (1 if abs(first) % abs(second) else 0)
+    return {"plus": first + second, "less": first - second, "times": first * second}[part[0]]
+
+
+def sieve_of(sieve, look):
+    worths = [worth_of(part, look) for part in sieve[1:]]
+    if "fault" in worths:
+        return "fault"
+    if sieve[0] == "lacking":
+        return worths == [None]
+    if None in worths:
+        return False
+    return {"alike": worths[0] == worths[-1], "unlike": worths[0] != worths[-1],
+            "below": worths[0] < worths[-1]}[sieve[0]]
+
+
+class Plain:
+    """An ask answered by trying every choice of a row, or of None, for every source."""
+
+    def __init__(self, tables, ask, moment=None):
+        self.ask = ask
+        self.rows = []
+        self.columns = []
+        for _, _, table, _ in ask[0]:
+            self.rows.append(dict(tables.rows(table, moment=moment)))
+            self.columns.append(tables.columns(table, moment=moment))
+
+    def fits(self, source, number, look):
+        row = dict(zip(self.columns[source], self.rows[source][number]))
+        return all(row[own] == look[(alias, other)] for own, alias, other in self.ask[0][source][3])
+
+    def look(self, choice):
+        look = {}
+        for source, number in choice.items():
+            for at, column in enumerate(self.columns[source]):
+                worth = None if number is None else self.rows[source][number][at]
+                look[(self.ask[0][source][1], column)] = worth
+        return look
+
+    def by_way(self, *ways):
+        return [at for at, source in enumerate(self.ask[0]) if source[0] in ways]
+
+    def combinations(self):
+        withs = self.by_way("with")
+        combined = []
+        for numbers in itertools.product(*[self.rows[at] for at in withs]):
+            look = self.look(dict(zip(withs, numbers)))
+            if all(self.fits(at, number, look) for at, number in zip(withs, numbers)):
+                combined.append(numbers)
+        return sorted(combined)
+
+    def founds(self):
+        withs, others = self.by_way("with"), self.by_way("perhaps")
+        found = []
+        for numbers in self.combinations():
+            look = self.look(dict(zip(withs, numbers)))
+            if any(self.fits(at, number, look) for at in self.by_way("none") for number in self.rows[at]):
+                continue
+            fitting = [[number for number in self.rows[at] if self.fits(at, number, look)] or [None]
+                       for at in others]
+            found.extend(numbers + more for more in itertools.product(*fitting))
+        return sorted(found, key=places_key)
+
+    def parts(self):
+        telling = self.ask[2]
+        if telling[0] == "rows":
+            return list(telling[1])
+        return list(telling[1]) + [part for _, part in telling[2]]
+
+    def judged(self, places):
+        """("row", worths), ("fault", what), or ("dropped", k)."""
+        look = self.look(dict(zip(self.by_way("with", "perhaps"), places)))
+        for k, sieve in enumerate(self.ask[1]):
+            if sieve_of(sieve, look) == "fault":
+                return "fault", ("sieve", k)
+            if not sieve_of(sieve, look):
+                return "dropped", k
+        worths = [worth_of(part, look) for part in self.parts()]
+        if "fault" in worths:
+            return "fault", ("tell", worths.index("fault"))
+        return "row", tuple(worths)
+
+    def found_rows(self):
+        judged = [(places, self.judged(places)) for places in self.founds()]
+        return [(places, what) for places, (word, what) in judged if word == "row"]
+
+    def answer(self):
+        judged = [(places, self.judged(places)) for places in self.founds()]
+        faults = [(places, what) for places, (word, what) in judged if word == "fault"]
+        return rows_told(self.ask, self.found_rows()), faults
+
+
+def rows_told(ask, found):
+    """The rows from what was found, in the order of places."""
+    _, _, telling, order, first, struck = ask
+    if telling[0] == "groups":
+        rows = grouped(telling, found)
+    elif struck:
+        rows = []
+        for worths in dict.fromkeys(worths for _, worths in found):
+            rows.append((worths, [places for places, theirs in found if theirs == worths]))
+    else:
+        rows = [(worths, [places]) for places, worths in found]
+    for number, way in reversed(order):
+        there = [row for row in rows if row[0][number] is not None]
+        lone = [row for row in rows if row[0][number] is None]
+        there = sorted(there, key=lambda row: row[0][number] * (1 if way == "up" else -1))
+        rows = lone + there if way == "up" else there + lone
+    return rows[:first]
+
+
+def grouped(telling, found):
+    many = len(telling[1])
+    rows = []
+    for key in dict.fromkeys(worths[:many] for _, worths in found):
+        group = [(places, worths) for places, worths in found if worths[:many] == key]
+        told = []
+        for at, (word, _) in enumerate(telling[2]):
+            there = [worths[many + at] for _, worths in group if worths[many + at] is not None]
+            if word in ("count", "sum"):
+                told.append(len(there) if word == "count" else sum(there))
+            else:
+                pick = min if word == "least" else max
+                told.append(pick(there) if there else None)
+        rows.append((key + tuple(told), [places for places, _ in group]))
+    return rows
