@@ -178,3 +178,65 @@ def grouped(telling, found):
                 told.append(pick(there) if there else None)
         rows.append((key + tuple(told), [places for places, _ in group]))
     return rows
+
+
+# Asks and tables by a seeded chance: random is a random.Random with a told seed.
+def some_tables(random, most_rows=5):
+    """Tables a, b, c of columns x, y: small worths, some rows out, the deeds mixed."""
+    deeds = [("table", name, ("x", "y")) for name in "abc"]
+    rows = {"a": [], "b": [], "c": []}
+    for _ in range(random.randrange(5 * most_rows)):
+        name = random.choice("abc")
+        if len(rows[name]) < most_rows:
+            deeds.append(("row", name, (random.randrange(-1, 2), random.randrange(3))))
+            rows[name].append(len(rows[name]))
+        if random.randrange(6) == 0 and rows[name]:
+            number = random.choice(rows[name])
+            if ("out", name, number) not in deeds:
+                deeds.append(("out", name, number))
+    return deeds
+
+
+def some_part(random, aliases, levels=3):
+    if levels == 1 or random.randrange(2):
+        if random.randrange(4) == 0:
+            return ("number", random.randrange(-2, 4))
+        return ("cell", random.choice(aliases), random.choice("xy"))
+    word = random.choice(("plus", "less", "times", "over", "over"))
+    return (word, some_part(random, aliases, levels - 1), some_part(random, aliases, levels - 1))
+
+
+def some_sieve(random, aliases):
+    word = random.choice(("alike", "unlike", "unlike", "below", "lacking"))
+    parts = tuple(some_part(random, aliases) for _ in range(1 if word == "lacking" else 2))
+    return (word,) + parts
+
+
+def some_sources(random):
+    ways = ["with"] * random.choice((1, 2, 2, 3)) + [random.choice(("perhaps", "none"))
+                                                   for _ in range(random.choice((0, 1, 1, 2)))]
+    sources = []
+    for at, way in enumerate(ways):
+        ahead = [alias for their_way, alias, _, _ in sources if their_way == "with"]
+        many = random.choice((0, 1, 1, 2)) if ahead else 0
+        pairs = tuple((random.choice("xy"), random.choice(ahead), random.choice("xy")) for _ in range(many))
+        sources.append((way, "pqrst"[at], random.choice("abc"), pairs))
+    return tuple(sources)
+
+
+def some_ask(random):
+    sources = some_sources(random)
+    aliases = [alias for way, alias, _, _ in sources if way != "none"]
+    sieves = tuple(some_sieve(random, aliases) for _ in range(random.choice((0, 0, 0, 1, 2, 3))))
+    struck = False
+    if random.randrange(2):
+        parts = tuple(some_part(random, aliases, 2) for _ in range(random.randrange(1, 4)))
+        telling, columns, struck = ("rows", parts), len(parts), random.choice((True, False))
+    else:
+        keys = tuple(some_part(random, aliases, 2) for _ in range(random.randrange(3)))
+        sums = tuple((random.choice(("count", "sum", "least", "most")), some_part(random, aliases, 2))
+                     for _ in range(random.randrange(1, 4)))
+        telling, columns = ("groups", keys, sums), len(keys) + len(sums)
+    numbers = random.sample(range(columns), random.randrange(min(columns, 2) + 1))
+    order = tuple((number, random.choice(("up", "down"))) for number in numbers)
+    return (sources, sieves, telling, order, random.choice((None, None, 1, 2, 5)), struck)

@@ -49,11 +49,12 @@ class ErrorsTest(unittest.TestCase):
     def test_field_is_a_copy(self):
         for name, field in list(WITH_FIELD.items()) + [("Unknown", "name")]:
             inner = [1]
-            thing = {"a": (inner, {"b": 2})}
+            thing = {"a": ([inner], {"b": 2})}
             error = getattr(errors, name)(thing)
             inner.append(2)
+            thing["a"][1]["b"] = 4
             thing["c"] = 3
-            self.assertEqual(getattr(error, field), {"a": ([1], {"b": 2})})
+            self.assertEqual(getattr(error, field), {"a": ([[1]], {"b": 2})})
 
     def test_field_is_needed(self):
         for name in list(WITH_FIELD) + ["Unknown"]:

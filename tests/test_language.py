@@ -10,17 +10,25 @@ FOLDER = os.path.join(os.path.dirname(os.path.dirname(os.path.abspath(__file__))
 STATEMENTS = (ast.Assign, ast.AugAssign, ast.AnnAssign, ast.If, ast.While, ast.For, ast.Return, ast.Break, ast.Continue,
               ast.Pass, ast.Raise, ast.Assert, ast.Delete, ast.Nonlocal, ast.Match, ast.With, ast.Try, ast.Expr,
               ast.FunctionDef, ast.ClassDef, ast.ImportFrom)
-BUILTINS = ("len range enumerate zip min max sum abs sorted reversed int str bool list tuple dict set isinstance ord repr "
-            "any all divmod ValueError KeyError").split()
-METHODS = ("append clear copy count endswith extend find get index insert isalnum isalpha isdigit islower isspace isupper "
-           "items join keys ljust lower lstrip partition pop remove replace reverse rfind rjust rpartition rsplit rstrip "
-           "setdefault split splitlines startswith strip update upper values zfill bit_length").split()
+BUILTINS = """
+    len range enumerate zip min max sum abs sorted reversed int str bool list tuple dict set isinstance ord repr any all
+    divmod ValueError KeyError
+""".split()
+METHODS = """
+    append clear copy count endswith extend find get index insert isalnum isalpha isdigit islower isspace isupper items
+    join keys ljust lower lstrip partition pop remove replace reverse rfind rjust rpartition rsplit rstrip setdefault
+    split splitlines startswith strip update upper values zfill bit_length
+""".split()
 DUNDERS = ("__init__", "__eq__", "__repr__", "__str__", "__len__", "__iter__")
-LIBRARY = {"heapq", "math", "itertools", "collections"}
-BARRED = ("type typing typing_extensions enum Enum IntEnum StrEnum Flag IntFlag Generic Protocol ABC ABCMeta namedtuple "
-          "NamedTuple TypedDict TYPE_CHECKING abstractmethod").split()
-NO_NAMES = ("register mro elements open input law version_info with_traceback add_note _cold _tuplegetter _outside _record "
-            "_written_out _member_names").split()
+LIBRARY = ("heapq", "math", "itertools", "collections")
+BARRED = """
+    type typing typing_extensions enum Enum IntEnum StrEnum Flag IntFlag Generic Protocol ABC ABCMeta namedtuple
+    NamedTuple TypedDict TYPE_CHECKING abstractmethod
+""".split()
+NO_NAMES = """
+    register mro elements open input law version_info with_traceback add_note _cold _tuplegetter _outside _record
+    _written_out _member_names
+""".split()
 
 
 def files():
@@ -157,7 +165,8 @@ class LanguageTest(unittest.TestCase):
             self.assertFalse(re.search(r"\b(_wall|_WallAttr)\b", text), name)
             for found in names_of(tree):
                 self.assertNotIn(re.sub(r"[0-9_]+$", "", found), NO_NAMES, name)
-                self.assertFalse(re.match(r"_(wall|pe_|dcw_|enum_|cm_|twin_re_|lay_|law_|stub_|sre|WallAttr)", found), found)
+                self.assertFalse(re.match(r"_(wall|pe_|dcw_|enum_|cm_|twin_re_|lay_|law_|stub_|sre|WallAttr)", found),
+                                 found)
                 self.assertTrue(found in DUNDERS or not found.startswith("__"), found)
                 self.assertNotIn(found, BARRED, name)
 

@@ -45,7 +45,8 @@ class RefusalTest(unittest.TestCase):
             ("row", "a", None), ("row", "a", (1, None)), ("row", "a", (1, True)), ("row", "a", (False, 2)),
             ("row", "a", (1, "2")), ("row", "a", (1, 10 ** 30)), ("row", "a", (-(10 ** 30), 1)), ("row", "A", (1, 2)),
             ("row", "", (1, 2)), ("row", 1, (1, 2)), ("row", "a", (1, (2,))), ("rows", "a", (1, 2)),
-            ("out", "a"), ("out", "a", 0, 0), ["out", "a", 0], ("out", "a", -1), ("out", "a", True), ("out", "a", False),
+            ("out", "a"), ("out", "a", 0, 0), ["out", "a", 0], ("out", "a", -1), ("out", "a", True),
+            ("out", "a", False),
             ("out", "a", None), ("out", "a", "0"), ("out", "a", (0,)), ("out", "A", 0), ("out", None, 0),
             ("put", "a", 0), (None, "a", 0), (("out",), "a", 0), ([], "a", 0), ({}, "a", (1, 2)),
         ]
@@ -158,7 +159,8 @@ class ToldTest(unittest.TestCase):
 
     def test_columns_and_names_at_each_moment(self):
         tables = Tables(DEEDS)
-        self.assertEqual([tables.names(moment=moment) for moment in range(5)], [[], ["a"], ["a"], ["a", "b"], ["a", "b"]])
+        self.assertEqual([tables.names(moment=moment) for moment in range(5)],
+                         [[], ["a"], ["a"], ["a", "b"], ["a", "b"]])
         self.assertEqual(tables.names(), ["a", "b"])
         for moment in range(1, 8):
             self.assertEqual(tables.columns("a", moment=moment), ("x", "y"))
@@ -179,6 +181,9 @@ class ToldTest(unittest.TestCase):
                 self.assertEqual(error.name, name)
             self.assertEqual(refusal(ask, "q").name, "q")
             self.assertEqual(refusal(ask, name="q").name, "q")
+            for thing in THINGS:
+                if thing != "a":
+                    self.assertEqual(refusal(ask, thing).name, thing)
 
     def test_moment_by_its_name_alone(self):
         tables = Tables(DEEDS)
@@ -191,7 +196,8 @@ class ToldTest(unittest.TestCase):
     def test_elder_moments_stay(self):
         tables = Tables(DEEDS)
         before = state(tables)[5:]
-        for deed in (("out", "a", 1), ("row", "b", (1,)), ("table", "aa", ("x",)), ("out", "b", 0), ("row", "aa", (4,))):
+        for deed in (("out", "a", 1), ("row", "b", (1,)), ("table", "aa", ("x",)), ("out", "b", 0),
+                     ("row", "aa", (4,))):
             tables.do(deed)
             self.assertEqual(state(tables)[5:5 + len(before)], before)
         self.assertEqual(tables.rows("a"), [(2, (6, 7))])
@@ -250,7 +256,8 @@ class ToldTest(unittest.TestCase):
 
     def test_text(self):
         self.assertEqual(str(Tables()), "")
-        self.assertEqual(str(Tables(DEEDS)), "table a x y\nrow a 1 2\ntable b z\nrow a 3 -4\nrow b 5\nout a 0\nrow a 6 7\n")
+        self.assertEqual(str(Tables(DEEDS)),
+                         "table a x y\nrow a 1 2\ntable b z\nrow a 3 -4\nrow b 5\nout a 0\nrow a 6 7\n")
         great = 10 ** 30 - 1
         tables = Tables([("table", "t", ("p", "q", "r", "s")), ("row", "t", (0, -great, great, -1))])
         self.assertEqual(str(tables), f"table t p q r s\nrow t 0 -{great} {great} -1\n")

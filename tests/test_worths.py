@@ -25,7 +25,7 @@ def full(levels):
 
 
 def many(part):
-    return 1 if part[0] == "cell" else 1 + many(part[1]) + many(part[2])
+    return 1 if part[0] in ("cell", "number") else 1 + many(part[1]) + many(part[2])
 
 
 class NameTest(unittest.TestCase):
@@ -95,7 +95,8 @@ class PartTest(unittest.TestCase):
         self.assertIs(is_part(full(4)), True)
         seventeen = ("plus", full(4), A)
         self.assertIs(is_part(seventeen), False)
-        left, three = ("plus", ("plus", ("plus", A, B), B), B), ("plus", A, B)
+        # Numbers count as cells do.
+        left, three = ("plus", ("plus", ("plus", A, ZERO), B), ZERO), ("plus", ZERO, B)
         thirteen = ("plus", left, ("plus", three, B))
         fifteen = ("plus", left, ("plus", three, three))
         seventeen = ("plus", ("plus", left[1], three), full(3))
@@ -122,7 +123,8 @@ class PartTest(unittest.TestCase):
 class CellsTest(unittest.TestCase):
 
     def test_rising_each_once(self):
-        part = ("plus", ("plus", ("cell", "b", "a"), ("cell", "a", "z")), ("less", ("cell", "b", "a"), ("cell", "a", "b")))
+        part = ("plus", ("plus", ("cell", "b", "a"), ("cell", "a", "z")),
+                ("less", ("cell", "b", "a"), ("cell", "a", "b")))
         self.assertEqual(cells_of(part), [("a", "b"), ("a", "z"), ("b", "a")])
         self.assertEqual(cells_of(A), [("a", "x")])
         self.assertEqual(cells_of(ZERO), [])

@@ -1,0 +1,107 @@
+"""The plain run: an ask gone through combination by combination."""
+
+from plansamid.asks import told_parts
+from plansamid.endings import rows_of
+from plansamid.errors import NoWorth
+from plansamid.sieves import holds
+from plansamid.worths import told_by
+
+
+def combinations(tables, ask, *, moment=None):
+    return [numbers for numbers, look in _combined(tables, ask, moment)]
+
+
+def founds(tables, ask, *, moment=None):
+    return [places for places, look in _found(tables, ask, moment)]
+
+
+def plainly(tables, ask, *, moment=None):
+    parts = told_parts(ask)
+    found = []
+    faults = []
+    for places, look in _found(tables, ask, moment):
+        held, what = look_at_sieves(ask[1], look)
+        if held:
+            worths, what = look_at_parts(parts, look)
+            if what is None:
+                found.append((places, worths))
+        if what is not None:
+            faults.append((places, what))
+    return (rows_of(ask, found), faults)
+
+
+def look_at_sieves(sieves, look):
+    """Whether all hold, and the fault of the first that faults ahead of one that doesn't."""
+    for number, sieve in enumerate(sieves):
+        try:
+            held = holds(sieve, look)
+        except NoWorth:
+            return (False, ("sieve", number))
+        if not held:
+            return (False, None)
+    return (True, None)
+
+
+def look_at_parts(parts, look):
+    """What the parts tell, or None and the fault of the first that faults."""
+    worths = []
+    for number, part in enumerate(parts):
+        try:
+            worths.append(told_by(part, look))
+        except NoWorth:
+            return (None, ("tell", number))
+    return (tuple(worths), None)
+
+
+def _combined(tables, ask, moment):
+    """The combinations, rising, each with its look."""
+    combined = [((), {})]
+    for source in ask[0]:
+        if source[0] == "with":
+            rows = _rows_of_source(tables, source, moment)
+            combined = [_joined(one, source, row) for one in combined
+                        for row in _fitting(source, rows, one[1])]
+    return combined
+
+
+def _found(tables, ask, moment):
+    """The found ones in the order of places, each with its look."""
+    found = _combined(tables, ask, moment)
+    for source in ask[0]:
+        if source[0] == "none":
+            rows = _rows_of_source(tables, source, moment)
+            found = [one for one in found if not _fitting(source, rows, one[1])]
+    # Behind all that is dropped, that no more are made than are found.
+    for source in ask[0]:
+        if source[0] == "perhaps":
+            rows = _rows_of_source(tables, source, moment)
+            columns = tables.columns(source[2], moment=moment)
+            lone = (None, {column: None for column in columns})
+            found = [_joined(one, source, row) for one in found
+                     for row in _fitting(source, rows, one[1]) or [lone]]
+    return found
+
+
+def _rows_of_source(tables, source, moment):
+    """The rows of its table, each its number and a dict from columns to worths."""
+    columns = tables.columns(source[2], moment=moment)
+    rows = []
+    for number, worths in tables.rows(source[2], moment=moment):
+        rows.append((number, {column: worth for column, worth in zip(columns, worths)}))
+    return rows
+
+
+def _fitting(source, rows, look):
+    """Those of the rows that fit all pairs of the source by the look."""
+    return [(number, row) for number, row in rows
+            if all([row[column] == look[(alias, column2)] for column, alias, column2 in source[3]])]
+
+
+def _joined(one, source, row):
+    """What is found so far with a row of one more source."""
+    numbers, look = one
+    number, worths = row
+    grown = {cell: look[cell] for cell in look}
+    for column in worths:
+        grown[(source[1], column)] = worths[column]
+    return (numbers + (number,), grown)
