@@ -1,6 +1,6 @@
 """Counts of tables, and how much a plan is guessed to look at by them."""
 
-from plansamid.plans import links_of, plans_of
+from plansamid.plans import led_to, links_of, plans_of
 
 
 def counts_of(tables, *, moment=None):
@@ -20,8 +20,7 @@ def guess(ask, plan, counts):
     links = links_of(ask, plan)
     many = _rows_in(ask, order[0], counts)
     looks = 1 + many
-    others = list(range(len(order), len(ask[0])))
-    for number in list(order[1:]) + others:
+    for number in led_to(ask, plan):
         rows = _rows_in(ask, number, counts)
         share = _share_of(ask, number, links, counts)
         if way == "kept" and number in links:

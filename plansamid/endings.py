@@ -3,7 +3,7 @@
 
 def rows_of(ask, found):
     telling, order, first, struck = ask[2:]
-    in_order = _by_places(found)
+    in_order = by_places(found)
     if telling[0] == "groups":
         rows = _grouped(telling[1], telling[2], in_order)
     elif struck:
@@ -14,10 +14,14 @@ def rows_of(ask, found):
     return rows if first is None else rows[:first]
 
 
-def _by_places(found):
-    """What was found in the order of places; -1 stands for None, ahead of all numbers."""
-    keys = [(tuple([-1 if number is None else number for number in places]), at)
-            for at, (places, worths) in enumerate(found)]
+def places_key(places):
+    """By which places stand in order: -1 is None, ahead of all numbers."""
+    return tuple([-1 if number is None else number for number in places])
+
+
+def by_places(found):
+    """What was found in the order of places, whatever is told of them."""
+    keys = [(places_key(places), at) for at, (places, what) in enumerate(found)]
     return [found[at] for key, at in sorted(keys)]
 
 
@@ -55,9 +59,13 @@ def _summed(word, worths):
 
 def _sorted_by(order, rows):
     """The rows by the order; those alike in it stay as they stand."""
-    keys = [([_rank(worths[number], way) for number, way in order], at)
-            for at, (worths, founds) in enumerate(rows)]
+    keys = [(ranks_of(order, worths), at) for at, (worths, founds) in enumerate(rows)]
     return [rows[at] for key, at in sorted(keys)]
+
+
+def ranks_of(order, worths):
+    """By which worths stand in the order."""
+    return tuple([_rank(worths[number], way) for number, way in order])
 
 
 def _rank(worth, way):

@@ -58,9 +58,9 @@ def _combined(tables, ask, moment):
     combined = [((), {})]
     for source in ask[0]:
         if source[0] == "with":
-            rows = _rows_of_source(tables, source, moment)
-            combined = [_joined(one, source, row) for one in combined
-                        for row in _fitting(source, rows, one[1])]
+            rows = rows_of_source(tables, source, moment)
+            combined = [joined(one, source, row) for one in combined
+                        for row in fitting(rows, source[3], one[1])]
     return combined
 
 
@@ -69,20 +69,19 @@ def _found(tables, ask, moment):
     found = _combined(tables, ask, moment)
     for source in ask[0]:
         if source[0] == "none":
-            rows = _rows_of_source(tables, source, moment)
-            found = [one for one in found if not _fitting(source, rows, one[1])]
+            rows = rows_of_source(tables, source, moment)
+            found = [one for one in found if not fitting(rows, source[3], one[1])]
     # Behind all that is dropped, that no more are made than are found.
     for source in ask[0]:
         if source[0] == "perhaps":
-            rows = _rows_of_source(tables, source, moment)
-            columns = tables.columns(source[2], moment=moment)
-            lone = (None, {column: None for column in columns})
-            found = [_joined(one, source, row) for one in found
-                     for row in _fitting(source, rows, one[1]) or [lone]]
+            rows = rows_of_source(tables, source, moment)
+            lone = lone_row(tables, source, moment)
+            found = [joined(one, source, row) for one in found
+                     for row in fitting(rows, source[3], one[1]) or [lone]]
     return found
 
 
-def _rows_of_source(tables, source, moment):
+def rows_of_source(tables, source, moment):
     """The rows of its table, each its number and a dict from columns to worths."""
     columns = tables.columns(source[2], moment=moment)
     rows = []
@@ -91,13 +90,18 @@ def _rows_of_source(tables, source, moment):
     return rows
 
 
-def _fitting(source, rows, look):
-    """Those of the rows that fit all pairs of the source by the look."""
+def lone_row(tables, source, moment):
+    """What stands for a row of a source of which none fits."""
+    return (None, {column: None for column in tables.columns(source[2], moment=moment)})
+
+
+def fitting(rows, pairs, look):
+    """Those of a source's rows that fit all the pairs by the look."""
     return [(number, row) for number, row in rows
-            if all([row[column] == look[(alias, column2)] for column, alias, column2 in source[3]])]
+            if all([row[column] == look[(alias, column2)] for column, alias, column2 in pairs])]
 
 
-def _joined(one, source, row):
+def joined(one, source, row):
     """What is found so far with a row of one more source."""
     numbers, look = one
     number, worths = row

@@ -240,3 +240,102 @@ def some_ask(random):
     numbers = random.sample(range(columns), random.randrange(min(columns, 2) + 1))
     order = tuple((number, random.choice(("up", "down"))) for number in numbers)
     return (sources, sieves, telling, order, random.choice((None, None, 1, 2, 5)), struck)
+
+
+# A led row is told here choice by choice, each on its own way, to hold the program against it.
+class Led:
+    """What the next row of the lead looks at and finds; yet as in the document, kept the numbers of sources."""
+
+    def __init__(self, plain, plan, yet, kept):
+        self.plain = plain
+        self.sources = plain.ask[0]
+        self.order = plan[0]
+        self.kept = kept
+        self.looks = 0
+        self.found = []
+        self.yet = {}
+        for at, (start, done) in enumerate(yet):
+            numbers = sorted(plain.rows[at])
+            self.yet[at] = (numbers[start:] + numbers[:start])[done:]
+        self.go({}, list(self.order) + plain.by_way("none", "perhaps"))
+
+    def ties(self, at, ahead):
+        """The pairs between a source and those ahead, the first one its link."""
+        own, aliases = self.sources[at][1], [self.sources[one][1] for one in ahead]
+        turned = []
+        for _, alias, _, pairs in self.sources:
+            turned += [pair for pair in pairs if alias == own and pair[1] in aliases]
+            turned += [(column2, alias, column) for column, other, column2 in pairs
+                       if other == own and alias in aliases]
+        return turned
+
+    def worth(self, at, number, column):
+        return self.plain.rows[at][number][self.plain.columns[at].index(column)]
+
+    def go(self, choice, way):
+        if not way:
+            self.end(choice)
+        elif self.sources[way[0]][0] == "with":
+            self.go_with(choice, way[0], way[1:])
+        else:
+            self.go_other(choice, way[0], way[1:])
+
+    def looked_at(self, at, walked, ties, look):
+        looked = walked
+        if at in self.kept:
+            own, alias, other = ties[0]
+            looked = [number for number in self.plain.rows[at] if self.worth(at, number, own) == look[(alias, other)]]
+        self.looks += len(looked)
+        return looked
+
+    def go_with(self, choice, at, way):
+        ties, look = self.ties(at, choice), self.plain.look(choice)
+        walked = self.yet[at] if choice else self.yet[at][:1]
+        for number in self.looked_at(at, walked, ties, look):
+            fits = all(self.worth(at, number, own) == look[(alias, other)] for own, alias, other in ties)
+            grown = {**choice, at: number}
+            if number in self.yet[at] and fits and not self.early(grown):
+                self.go(grown, way)
+
+    def early(self, choice):
+        look = self.plain.look(choice)
+        for sieve in self.plain.ask[1]:
+            state = sieve_of(sieve, look) if self.all_ahead(sieve, choice) else "waits"
+            if state is False:
+                return True
+            if state == "fault" or (state == "waits" and divides(sieve)):
+                return False
+        return False
+
+    def all_ahead(self, sieve, choice):
+        return aliases_in(sieve) <= {self.sources[at][1] for at in choice}
+
+    def go_other(self, choice, at, way):
+        ties, look = self.sources[at][3], self.plain.look(choice)
+        numbers = self.looked_at(at, self.plain.rows[at], ties, look)
+        fitting = [number for number in numbers
+                   if all(self.worth(at, number, own) == look[(alias, other)] for own, alias, other in ties)]
+        if self.sources[at][0] == "perhaps":
+            for number in fitting or [None]:
+                self.go({**choice, at: number}, way)
+        elif not fitting:
+            self.go(choice, way)
+
+    def end(self, choice):
+        places = tuple(choice[at] for at in sorted(choice))
+        word, what = self.plain.judged(places)
+        if word != "dropped":
+            self.found.append((places, what, None) if word == "row" else (places, None, what))
+
+
+def divides(thing):
+    return isinstance(thing, tuple) and (thing[:1] == ("over",) or any(divides(one) for one in thing))
+
+
+def aliases_in(thing):
+    """The aliases of all cells, of a sieve or a part."""
+    if not isinstance(thing, tuple):
+        return set()
+    if thing[0] == "cell":
+        return {thing[1]}
+    return set().union(*[aliases_in(one) for one in thing])

@@ -14,6 +14,10 @@ FUNCTIONS = {
                 "founds(tables, ask, *, moment=None)"],
     "plans": ["plans_of(ask)", "links_of(ask, plan)"],
     "counts": ["counts_of(tables, *, moment=None)", "guess(ask, plan, counts)", "guessed(ask, counts)"],
+    "boxes": ["are_whole(sizes, thing)", "slab_of(slabs, positions)", "met_by(sizes, slabs)", "left(sizes, slabs)"],
+    "early": ["dropped(sieves, seen)"],
+    "leading": ["led(tables, ask, plan, yet, *, moment=None, kept=None, budget=None)"],
+    "rules": ["is_rule(ask, thing)", "visit_at(ask, rule, counts, k)"],
 }
 METHODS = {
     ("tables", "Tables"): ["__init__(self, deeds=())", "do(self, deed)", "moment(self)",

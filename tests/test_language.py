@@ -1,6 +1,7 @@
 """Rules of the language subset that can be seen file by file.
 
-Narrower than the subset in places (no generators, few builtins): what a rule allows may be let in here when it is needed.
+Narrower than the subset in places (no generators, few builtins): what a rule allows may be let in here when it is
+needed.
 """
 
 import ast
