@@ -259,16 +259,6 @@ class Led:
             self.yet[at] = (numbers[start:] + numbers[:start])[done:]
         self.go({}, list(self.order) + plain.by_way("none", "perhaps"))
 
-    def ties(self, at, ahead):
-        """The pairs between a source and those ahead, the first one its link."""
-        own, aliases = self.sources[at][1], [self.sources[one][1] for one in ahead]
-        turned = []
-        for _, alias, _, pairs in self.sources:
-            turned += [pair for pair in pairs if alias == own and pair[1] in aliases]
-            turned += [(column2, alias, column) for column, other, column2 in pairs
-                       if other == own and alias in aliases]
-        return turned
-
     def worth(self, at, number, column):
         return self.plain.rows[at][number][self.plain.columns[at].index(column)]
 
@@ -280,19 +270,19 @@ class Led:
         else:
             self.go_other(choice, way[0], way[1:])
 
-    def looked_at(self, at, walked, ties, look):
+    def looked_at(self, at, walked, pairs, look):
         looked = walked
         if at in self.kept:
-            own, alias, other = ties[0]
+            own, alias, other = pairs[0]
             looked = [number for number in self.plain.rows[at] if self.worth(at, number, own) == look[(alias, other)]]
         self.looks += len(looked)
         return looked
 
     def go_with(self, choice, at, way):
-        ties, look = self.ties(at, choice), self.plain.look(choice)
+        pairs, look = ties(self.sources, at, choice), self.plain.look(choice)
         walked = self.yet[at] if choice else self.yet[at][:1]
-        for number in self.looked_at(at, walked, ties, look):
-            fits = all(self.worth(at, number, own) == look[(alias, other)] for own, alias, other in ties)
+        for number in self.looked_at(at, walked, pairs, look):
+            fits = all(self.worth(at, number, own) == look[(alias, other)] for own, alias, other in pairs)
             grown = {**choice, at: number}
             if number in self.yet[at] and fits and not self.early(grown):
                 self.go(grown, way)
@@ -311,10 +301,9 @@ class Led:
         return aliases_in(sieve) <= {self.sources[at][1] for at in choice}
 
     def go_other(self, choice, at, way):
-        ties, look = self.sources[at][3], self.plain.look(choice)
-        numbers = self.looked_at(at, self.plain.rows[at], ties, look)
-        fitting = [number for number in numbers
-                   if all(self.worth(at, number, own) == look[(alias, other)] for own, alias, other in ties)]
+        look = self.plain.look(choice)
+        numbers = self.looked_at(at, self.plain.rows[at], self.sources[at][3], look)
+        fitting = [number for number in numbers if self.plain.fits(at, number, look)]
         if self.sources[at][0] == "perhaps":
             for number in fitting or [None]:
                 self.go({**choice, at: number}, way)
@@ -328,6 +317,16 @@ class Led:
             self.found.append((places, what, None) if word == "row" else (places, None, what))
 
 
+def ties(sources, at, ahead):
+    """The pairs between a source and those ahead, the first one its link."""
+    own, aliases = sources[at][1], [sources[one][1] for one in ahead]
+    turned = []
+    for _, alias, _, pairs in sources:
+        turned += [pair for pair in pairs if alias == own and pair[1] in aliases]
+        turned += [(column2, alias, column) for column, other, column2 in pairs if other == own and alias in aliases]
+    return turned
+
+
 def divides(thing):
     return isinstance(thing, tuple) and (thing[:1] == ("over",) or any(divides(one) for one in thing))
 
@@ -339,3 +338,122 @@ def aliases_in(thing):
     if thing[0] == "cell":
         return {thing[1]}
     return set().union(*[aliases_in(one) for one in thing])
+
+
+def begun_again(plain, plan, rooms):
+    """The looks that a visit takes at first, and the sources that it keeps."""
+    order, way = plan
+    looks, kept = 1, []
+    for place, at in enumerate(list(order) + plain.by_way("none", "perhaps")):
+        tied = ties(plain.ask[0], at, order[:place]) if at in order else plain.ask[0][at][3]
+        if way == "kept" and tied and len(plain.rows[at]) <= rooms:
+            looks, rooms = looks + len(plain.rows[at]), rooms - len(plain.rows[at])
+            kept.append(at)
+    return looks, tuple(kept)
+
+
+class Again:
+    """A run gone through once more, by counting alone: what each turn tells, and what it stands at."""
+
+    def __init__(self, tables, ask, visit_at, *, moment=None, rooms=20, hand=8, starts=None):
+        self.plain = Plain(tables, ask, moment)
+        self.ask, self.visit_at, self.rooms, self.hand = ask, visit_at, rooms, hand
+        withs = self.plain.by_way("with")
+        self.rest = {at: len(self.plain.rows[at]) for at in withs}
+        self.starts = starts or [0] * len(withs)
+        self.visits = []
+        self.open = self.done = False
+        self.found = []
+        self.in_hand, self.lots, self.steps = 0, [], 0
+        self.is_sorted = ask[3] != () or ask[4] is not None or ask[2][0] == "groups"
+        self.met()
+
+    def met(self):
+        if 0 in self.rest.values():
+            self.open = False
+            self.lay_out()
+            self.done = not self.is_sorted
+        return 0 in self.rest.values()
+
+    def lay_out(self):
+        if self.in_hand:
+            self.lots.append(self.in_hand)
+            self.steps += self.in_hand
+            self.in_hand = 0
+
+    def put(self):
+        if self.in_hand >= self.hand:
+            self.lay_out()
+        self.in_hand += 1
+
+    def turn(self):
+        """A list of faults, and a list of rows: (worths, the places of which one is told)."""
+        if 0 in self.rest.values():
+            return [], self.turn_at_last()
+        if not self.open:
+            plan, budget, rows = self.visit_at(len(self.visits))
+            looks, kept = begun_again(self.plain, plan, self.rooms)
+            if budget is not None and looks > budget:
+                looks, kept = budget, ()
+            self.visits.append([plan, budget, looks, 0, kept, rows])
+            self.open = looks != budget
+            return [], []
+        plan, budget, looks, many, kept, rows = self.visits[-1]
+        lead = plan[0][0]
+        yet = tuple((self.starts[at], len(self.plain.rows[at]) - rest) for at, rest in self.rest.items())
+        row = Led(self.plain, plan, yet, kept)
+        if budget is not None and looks + row.looks > budget:
+            self.visits[-1][2] = budget
+            self.open = False
+            return [], []
+        self.visits[-1][2:4] = [looks + row.looks, many + 1]
+        self.open = looks + row.looks != budget and many + 1 != rows
+        self.rest[lead] -= 1
+        told = self.tell(row.found)
+        self.met()
+        return told
+
+    def tell(self, found):
+        faults = [(what, places) for places, _, what in found if what is not None]
+        fresh = [(worths, [places]) for places, worths, what in found if what is None]
+        if not self.is_sorted and self.ask[5]:
+            ahead = {worths for worths, _ in self.found}
+            fresh = [(worths, [places for theirs, (places,) in fresh if theirs == worths])
+                     for worths in dict.fromkeys(worths for worths, _ in fresh) if worths not in ahead]
+        for places, worths, what in found:
+            if what is None:
+                self.found.append((worths, places))
+                if self.ask[2][0] == "rows" and self.is_sorted:
+                    self.put()
+        return faults, [] if self.is_sorted else fresh
+
+    def turn_at_last(self):
+        if len(self.lots) > 1:
+            many = max(self.hand, 2)
+            self.lots = self.lots[many:] + [sum(self.lots[:many])]
+            self.steps += self.lots[-1]
+            return []
+        self.done = True
+        return [(worths, founds[:1]) for worths, founds in self.plain.answer()[0]]
+
+    def lend(self, many):
+        self.rooms += many
+
+    def call_back(self, many):
+        if many > self.rooms:
+            return False
+        self.rooms -= many
+        while self.open and sum(len(self.plain.rows[at]) for at in self.visits[-1][4]) > self.rooms:
+            self.visits[-1][4] = self.visits[-1][4][:-1]
+        return True
+
+    def call_back_hand(self, many):
+        if self.hand - many < 1:
+            return False
+        self.hand -= many
+        if self.in_hand > self.hand:
+            self.lay_out()
+        return True
+
+    def slabs(self):
+        return [(visit[0][0][0], visit[3]) for visit in self.visits if visit[3]]

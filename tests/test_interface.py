@@ -18,11 +18,23 @@ FUNCTIONS = {
     "early": ["dropped(sieves, seen)"],
     "leading": ["led(tables, ask, plan, yet, *, moment=None, kept=None, budget=None)"],
     "rules": ["is_rule(ask, thing)", "visit_at(ask, rule, counts, k)"],
+    "visits": ["begun(tables, ask, plan, *, moment=None, rooms=20)"],
+    "hindsight": ["cost(tables, ask, plan, *, moment=None, rooms=20, starts=None)", "hindsight(run)", "share(run)"],
 }
 METHODS = {
     ("tables", "Tables"): ["__init__(self, deeds=())", "do(self, deed)", "moment(self)",
                            "rows(self, name, *, moment=None)", "columns(self, name, *, moment=None)",
                            "names(self, *, moment=None)", "deeds(self)", "twin(self)"],
+    ("piles", "Pile"): ["__init__(self, hand)", "put(self, row)", "lend(self, n)", "call_back(self, n)", "end(self)",
+                        "merge(self)", "lots(self)", "steps(self)", "hand(self)", "told(self)"],
+    ("runs", "Run"): ["__init__(self, tables, ask, *, rule=('double',), moment=None, counts=None, rooms=20, hand=8, "
+                      "starts=None, watcher=None)",
+                      "turn(self)", "told(self)", "answer(self)", "looks(self)", "steps(self)", "rooms(self)",
+                      "hand(self)", "moment(self)", "slabs(self)", "visits(self)", "now_plan(self)", "starts(self)",
+                      "ask(self)", "rule(self)", "tables(self)", "lend(self, n)", "call_back(self, n)",
+                      "lend_hand(self, n)", "call_back_hand(self, n)", "is_done(self)", "__len__(self)",
+                      "__repr__(self)"],
+    ("kept", "Kept"): ["__init__(self)", "want(self, table, column, moment, now)"],
 }
 
 

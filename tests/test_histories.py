@@ -1,0 +1,135 @@
+"""Runs by seeded asks and histories, held turn by turn against a second way to count, and against the plain run."""
+
+import random
+import unittest
+
+from helper import Again, places_key, refusal, some_ask, some_tables
+from plansamid.boxes import are_whole, left, met_by, slab_of
+from plansamid.counts import counts_of
+from plansamid.errors import NoRoom
+from plansamid.plainly import plainly
+from plansamid.plans import plans_of
+from plansamid.rules import visit_at
+from plansamid.runs import Run
+from plansamid.tables import Tables
+
+
+def some_rule(chance, ask):
+    return chance.choice((("double",), ("double",), ("stay", chance.randrange(len(plans_of(ask)))),
+                          ("guess", chance.randrange(1, 5)), ("rows", chance.randrange(1, 4))))
+
+
+def some_deed(chance, tables):
+    """A deed that the tables do, or refuse."""
+    name = chance.choice("abc")
+    return refusal(tables.do, chance.choice((("row", name, (chance.randrange(3), chance.randrange(3))),
+                                             ("out", name, chance.randrange(6)))))
+
+
+class HistoryTest(unittest.TestCase):
+
+    def history(self, seed, loans):
+        """A run, and the same once more, made by a seeded chance."""
+        chance = random.Random(seed)
+        deeds = some_tables(chance)
+        tables, ask = Tables(deeds), some_ask(chance)
+        rule = some_rule(chance, ask)
+        moment = chance.choice((None, None, chance.randrange(3, len(deeds) + 1)))
+        counts = chance.choice((None, None, {}, {"a": (40, {"x": 3, "y": 1}), "c": (0, {})}))
+        sizes = [len(tables.rows(table, moment=moment)) for way, _, table, _ in ask[0] if way == "with"]
+        starts = chance.choice((None, tuple(chance.randrange(max(size, 1)) for size in sizes)))
+        rooms, hand = chance.randrange(12), chance.randrange(1, 6)
+        run = Run(tables, ask, rule=rule, moment=moment, counts=counts, rooms=rooms, hand=hand, starts=starts)
+        theirs = counts_of(tables, moment=moment) if counts is None else counts
+        again = Again(Tables(deeds), ask, lambda k: visit_at(ask, rule, theirs, k), moment=moment, rooms=rooms,
+                      hand=hand, starts=starts)
+        while not run.is_done():
+            if loans:
+                self.lend_or_call_back(chance, run, again)
+            if chance.randrange(3) == 0:
+                some_deed(chance, tables)
+            self.turn(run, again)
+        self.assertTrue(again.done)
+        return run, Tables(deeds), moment
+
+    def lend_or_call_back(self, chance, run, again):
+        many = chance.randrange(8)
+        deed = chance.randrange(8)
+        if deed == 0:
+            run.lend(many)
+            again.lend(many)
+        elif deed == 1:
+            error = refusal(run.call_back, many)
+            self.assertEqual(error.__class__ is NoRoom, not again.call_back(many))
+        elif deed == 2:
+            run.lend_hand(many)
+            again.hand += many
+        elif deed == 3:
+            error = refusal(run.call_back_hand, many)
+            self.assertEqual(error.__class__ is NoRoom, not again.call_back_hand(many))
+
+    def turn(self, run, again):
+        before = run.told()
+        told = run.turn()
+        faults, rows = again.turn()
+        self.assertEqual(run.told(), before + told)
+        self.assertEqual(sorted(one for one in told if one[0] == "fault"),
+                         sorted(("fault", what, places) for what, places in faults))
+        mine = [one[1:] for one in told if one[0] == "row"]
+        if not again.is_sorted:
+            mine = sorted(mine, key=lambda one: (repr(one[0]), places_key(one[1])))
+            rows = sorted(rows, key=lambda one: (repr(one[0]), places_key(one[1][0])))
+        self.assertEqual([worths for worths, _ in mine], [worths for worths, _ in rows])
+        for (_, places), (_, theirs) in zip(mine, rows):
+            self.assertIn(places, theirs)
+        self.assertEqual(run.visits(), [tuple(visit[:4]) for visit in again.visits])
+        self.assertEqual((run.slabs(), run.steps(), run.rooms(), run.hand(), run.is_done()),
+                         (again.slabs(), again.steps, again.rooms, again.hand, again.done))
+        self.assertEqual(run.now_plan(), again.visits[-1][0] if again.open else None)
+
+    def check_end(self, run, tables, moment):
+        """What all turns told is the plain answer, whatever was done to the run's tables since."""
+        ask = run.ask()
+        rows, faults = plainly(tables, ask, moment=moment)
+        self.assertEqual(run.answer(), (rows, faults))
+        told = run.told()
+        self.assertEqual(sorted(one for one in told if one[0] == "fault"),
+                         sorted(("fault", what, places) for places, what in faults))
+        mine = [one[1:] for one in told if one[0] == "row"]
+        self.assertEqual(len(run), len(rows))
+        firsts = [(worths, founds[0]) for worths, founds in rows]
+        if ask[3] != () or ask[4] is not None or ask[2][0] == "groups":
+            self.assertEqual(mine, firsts)
+        elif ask[5]:
+            founds_of = dict(rows)
+            self.assertEqual(len(set(worths for worths, _ in mine)), len(mine))
+            self.assertTrue(all(places in founds_of[worths] for worths, places in mine))
+        else:
+            self.assertEqual(sorted(mine, key=lambda one: places_key(one[1])), firsts)
+
+    def check_slabs(self, run, tables, moment):
+        """Each combination is met in just one slab, and all are."""
+        sizes = [len(tables.rows(table, moment=moment)) for way, _, table, _ in run.ask()[0] if way == "with"]
+        slabs = run.slabs()
+        self.assertIs(are_whole(sizes, slabs), True)
+        choices = 1
+        for size in sizes:
+            choices *= size
+        self.assertEqual(sum(met_by(sizes, slabs)), choices)
+        if choices:
+            self.assertIn(0, left(sizes, slabs))
+            self.assertEqual(slab_of(slabs, tuple(size - 1 for size in sizes)), len(slabs) - 1)
+
+    def test_turn_by_turn(self):
+        for seed in range(150):
+            with self.subTest(seed=seed):
+                run, tables, moment = self.history(seed, loans=False)
+                self.check_end(run, tables, moment)
+                self.check_slabs(run, tables, moment)
+
+    def test_turn_by_turn_with_loans(self):
+        for seed in range(150, 400):
+            with self.subTest(seed=seed):
+                run, tables, moment = self.history(seed, loans=True)
+                self.check_end(run, tables, moment)
+                self.check_slabs(run, tables, moment)
