@@ -11,11 +11,9 @@ def round_about(rows, start):
 def are_whole(sizes, thing):
     if not isinstance(thing, list):
         return False
-    if 0 in sizes:
-        return thing == []
     rest = list(sizes)
     for slab in thing:
-        # Where a source is through all is met: nothing may stand behind that.
+        # Where a source is through, or has no row, all is met: nothing may stand behind that.
         if 0 in rest or not _is_slab(rest, slab):
             return False
         source, many = slab

@@ -90,9 +90,7 @@ class Run:
     def _begin_visit(self):
         plan, budget, rows = visit_at(self._ask, self._rule, self._counts, len(self._visits))
         looks, kept = begun(self._tables, self._ask, plan, moment=self._moment, rooms=self._rooms)
-        visit = Visit(plan, budget, rows)
-        visit.begin(looks, kept)
-        self._visits.append(visit)
+        self._visits.append(Visit(plan, budget, rows, looks, kept))
 
     def _lead(self, visit):
         yet = [(start, size - rest) for start, size, rest in zip(self._starts, self._sizes, self._left())]
@@ -147,7 +145,8 @@ class Run:
             if not self._ask[5] or worths not in self._worths_told:
                 told.append(("row", worths, places))
             self._worths_told[worths] = True
-        return told if self._ask[4] is None else told[:self._ask[4]]
+        # None cuts nothing off.
+        return told[:self._ask[4]]
 
     def told(self):
         return list(self._told)

@@ -19,25 +19,20 @@ def begun(tables, ask, plan, *, moment=None, rooms=20):
 class Visit:
     """A plan's visit as far as it is: what it took, how many rows it led, and which sources it keeps."""
 
-    def __init__(self, plan, budget, most):
+    def __init__(self, plan, budget, most, looks, kept):
         self.plan = plan
         self.budget = budget
         # How many rows it may lead, or None.
         self.most = most
-        self.taken = 0
         self.many = 0
-        self.kept = ()
+        # Never more than the budget is taken, and then nothing is kept.
+        is_spent = budget is not None and looks > budget
+        self.taken = budget if is_spent else looks
+        self.kept = () if is_spent else kept
 
     def rest(self):
         """What is left of the budget, or None without one."""
         return None if self.budget is None else self.budget - self.taken
-
-    def begin(self, looks, kept):
-        if self.budget is not None and looks > self.budget:
-            self.spend()
-        else:
-            self.taken = looks
-            self.kept = kept
 
     def lead(self, looks):
         self.taken += looks
