@@ -138,7 +138,7 @@ def is_sorted(ask):
 def need_ask(tables, ask, *, moment=None):
     columns = {name: tables.columns(name, moment=moment) for name in tables.names(moment=moment)}
     table_of = {alias: table for way, alias, table, pairs in ask[0]}
-    for name in _named(ask):
+    for name in named_in(ask):
         if isinstance(name, str):
             there = name in columns
         else:
@@ -149,7 +149,7 @@ def need_ask(tables, ask, *, moment=None):
             raise NoAsk(name)
 
 
-def _named(ask):
+def named_in(ask):
     """The names of tables, and the cells, in the order in which they are needed."""
     names = []
     for way, alias, table, pairs in ask[0]:

@@ -1,10 +1,9 @@
 """A led row: the next row of the lead meets all that is yet to be met of the others."""
 
-from plansamid.asks import told_parts
 from plansamid.boxes import round_about
 from plansamid.early import dropped
 from plansamid.errors import NoWorth, Spent
-from plansamid.plainly import fitting, joined, lone_row, look_at_parts, look_at_sieves, rows_of_source
+from plansamid.plainly import fitting, joined, judged, lone_row, rows_of_source
 from plansamid.plans import keeps_of, links_of, pairs_between
 from plansamid.sieves import holds, sieve_cells
 
@@ -43,7 +42,9 @@ class Leading:
                 places_of.append(number)
         found = []
         for numbers, look in going:
-            found.extend(self._judged(_in_places(places_of, numbers), look))
+            worths, what = judged(self._ask, look)
+            if worths is not None or what is not None:
+                found.append((_in_places(places_of, numbers), worths, what))
         return found
 
     def _combined(self, yet):
@@ -109,16 +110,6 @@ class Leading:
             except NoWorth:
                 grown[number] = None
         return grown
-
-    def _judged(self, places, look):
-        """What is told of a found one, in a list; of a dropped one nothing."""
-        held, what = look_at_sieves(self._ask[1], look)
-        worths = None
-        if held:
-            worths, what = look_at_parts(told_parts(self._ask), look)
-        if worths is None and what is None:
-            return []
-        return [(places, worths, what)]
 
 
 def _in_places(places_of, numbers):

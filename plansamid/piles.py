@@ -65,6 +65,20 @@ class Pile:
     def hand(self):
         return self._most
 
+    def state(self):
+        """How the pile stands, of plain kinds."""
+        lots = tuple([tuple(lot) for lot in self._lots])
+        return (self._most, tuple(self._rows), lots, self._steps, self._ended)
+
+    def go_on(self, state):
+        """Stand as another pile stood."""
+        most, rows, lots, steps, ended = state
+        self._most = most
+        self._rows = list(rows)
+        self._lots = [list(lot) for lot in lots]
+        self._steps = steps
+        self._ended = ended
+
     def told(self):
         if not self._ended or len(self._lots) > 1:
             raise NotDone()

@@ -16,18 +16,23 @@ def founds(tables, ask, *, moment=None):
 
 
 def plainly(tables, ask, *, moment=None):
-    parts = told_parts(ask)
     found = []
     faults = []
     for places, look in _found(tables, ask, moment):
-        held, what = look_at_sieves(ask[1], look)
-        if held:
-            worths, what = look_at_parts(parts, look)
-            if what is None:
-                found.append((places, worths))
+        worths, what = judged(ask, look)
         if what is not None:
             faults.append((places, what))
+        elif worths is not None:
+            found.append((places, worths))
     return (rows_of(ask, found), faults)
+
+
+def judged(ask, look):
+    """Of a found one what the telling's parts tell, and its fault: one of them is None; both, where it is dropped."""
+    held, what = look_at_sieves(ask[1], look)
+    if not held:
+        return (None, what)
+    return look_at_parts(told_parts(ask), look)
 
 
 def look_at_sieves(sieves, look):

@@ -1,16 +1,26 @@
 """Runs: an ask gone through turn by turn, by the plans that a rule tells."""
 
 from plansamid.asks import is_ask, is_sorted, need_ask
-from plansamid.boxes import left
+from plansamid.boxes import left, round_about
 from plansamid.counts import counts_of
 from plansamid.endings import by_places, places_key, ranks_of, rows_of
 from plansamid.errors import Busy, Done, NoAsk, NoRoom, NoRule, NotDone, Spent, copied
 from plansamid.leading import led
 from plansamid.piles import Pile
+from plansamid.plans import links_of
 from plansamid.rules import is_rule, visit_at
 from plansamid.visits import Visit, begun
 
 DOUBLE = ("double",)
+
+
+def need_right(tables, ask, rule, *, moment=None):
+    """Refuse what no run is made of: no ask, or not right for the tables; then no rule for it."""
+    if not is_ask(ask):
+        raise NoAsk(None)
+    need_ask(tables, ask, moment=moment)
+    if not is_rule(ask, rule):
+        raise NoRule()
 
 
 class Run:
@@ -18,11 +28,7 @@ class Run:
 
     def __init__(self, tables, ask, *, rule=DOUBLE, moment=None, counts=None, rooms=20, hand=8, starts=None,
                  watcher=None):
-        if not is_ask(ask):
-            raise NoAsk(None)
-        need_ask(tables, ask, moment=moment)
-        if not is_rule(ask, rule):
-            raise NoRule()
+        need_right(tables, ask, rule, moment=moment)
         self._tables = tables
         self._ask = ask
         self._rule = rule
@@ -181,8 +187,32 @@ class Run:
         visit = self._open_visit()
         return None if visit is None else visit.plan
 
+    def next_led(self):
+        """The row that the open visit would lead next: its table and its number; None where no visit is open."""
+        visit = self._open_visit()
+        if visit is None:
+            return None
+        lead = visit.plan[0][0]
+        table = self._ask[0][lead][2]
+        numbers = [number for number, worths in self._tables.rows(table, moment=self._moment)]
+        done = self._sizes[lead] - self._left()[lead]
+        return (table, round_about(numbers, self._starts[lead])[done])
+
+    def keeps(self):
+        """Of each source that the last visit keeps its table, its link's column, and how many rows it has."""
+        visit = self._visits[-1]
+        links = links_of(self._ask, visit.plan)
+        return [(self._ask[0][number][2], links[number][0], self._rows[number]) for number in visit.kept]
+
     def starts(self):
         return self._starts
+
+    def sizes(self):
+        """How many rows each "with" source has."""
+        return list(self._sizes)
+
+    def counts(self):
+        return copied(self._counts)
 
     def ask(self):
         return self._ask
@@ -214,6 +244,28 @@ class Run:
     def call_back_hand(self, n):
         self._need_idle()
         self._pile.call_back(n)
+
+    def state(self):
+        """What turns and loans made of it so far, of plain kinds."""
+        self._need_idle()
+        visits = tuple([visit.state() for visit in self._visits])
+        return (self._rooms, visits, tuple(self._found), tuple(self._told), self._pile.state(), self._is_through)
+
+    def go_on(self, state):
+        """Stand as another run, made alike, stood."""
+        rooms, visits, found, told, pile, is_through = state
+        self._rooms = rooms
+        self._visits = []
+        for plan, budget, most, taken, kept, many in visits:
+            visit = Visit(plan, budget, most, taken, kept)
+            visit.many = many
+            self._visits.append(visit)
+        self._found = list(found)
+        self._told = list(told)
+        self._faults = [(places, what) for word, what, places in told if word == "fault"]
+        self._worths_told = {worths: True for word, worths, places in told if word == "row"}
+        self._pile.go_on(pile)
+        self._is_through = is_through
 
     def is_done(self):
         return self._is_through

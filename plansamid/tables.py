@@ -112,6 +112,10 @@ class Tables:
         return [(number, worths) for number, (worths, put, out) in enumerate(self._rows[name])
                 if put < then and (out is None or out >= then)]
 
+    def ever(self, name):
+        """How many rows the table ever had, those out too."""
+        return len(self._rows[name])
+
     def columns(self, name, *, moment=None):
         self._moment_of(name, moment)
         return self._columns[name]

@@ -45,5 +45,9 @@ class Visit:
     def is_over(self):
         return self.rest() == 0 or self.many == self.most
 
+    def state(self):
+        """All that it is made with again, and behind it how many rows it led."""
+        return (self.plan, self.budget, self.most, self.taken, self.kept, self.many)
+
     def told(self):
         return (self.plan, self.budget, self.taken, self.many)

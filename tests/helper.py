@@ -2,6 +2,8 @@
 
 import itertools
 
+from plansamid.plans import plans_of
+
 
 def deep(levels, inner=0):
     thing = inner
@@ -28,6 +30,19 @@ def refusal(do, *args, **more):
     except (ValueError, KeyError) as error:
         return error
     return None
+
+
+def state(run):
+    """All that a run tells."""
+    return (run.looks(), run.steps(), run.rooms(), run.hand(), run.moment(), run.slabs(), run.visits(), run.now_plan(),
+            run.starts(), run.told(), run.is_done(), len(run), repr(run), run.answer() if run.is_done() else None)
+
+
+def to_the_end(run):
+    """The run, each turn taken."""
+    while not run.is_done():
+        run.turn()
+    return run
 
 
 def places_key(places):
@@ -240,6 +255,18 @@ def some_ask(random):
     numbers = random.sample(range(columns), random.randrange(min(columns, 2) + 1))
     order = tuple((number, random.choice(("up", "down"))) for number in numbers)
     return (sources, sieves, telling, order, random.choice((None, None, 1, 2, 5)), struck)
+
+
+def some_rule(chance, ask):
+    return chance.choice((("double",), ("double",), ("stay", chance.randrange(len(plans_of(ask)))),
+                          ("guess", chance.randrange(1, 5)), ("rows", chance.randrange(1, 4))))
+
+
+def some_deed(chance, tables):
+    """A deed that the tables do, or refuse."""
+    name = chance.choice("abc")
+    return refusal(tables.do, chance.choice((("row", name, (chance.randrange(3), chance.randrange(3))),
+                                             ("out", name, chance.randrange(6)))))
 
 
 # A led row is told here choice by choice, each on its own way, to hold the program against it.

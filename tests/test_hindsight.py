@@ -1,7 +1,7 @@
 import random
 import unittest
 
-from helper import refusal, some_ask, some_tables
+from helper import refusal, some_ask, some_tables, to_the_end
 from plansamid.errors import NotDone
 from plansamid.hindsight import cost, hindsight, share
 from plansamid.plans import plans_of
@@ -21,12 +21,6 @@ YZ = ("rows", (cell("p", "y"), cell("q", "z")))
 ASK = (SOURCES, (), YZ, (), None, False)
 # (0, 1) kept 1 + 4 + 3 + 2 + 3, walked 1 + 3 * 5; (1, 0) kept 1 + 3 + 3 + 2 + 3 + 1, walked 1 + 4 * 4.
 COSTS = [13, 16, 13, 17]
-
-
-def to_the_end(run):
-    while not run.is_done():
-        run.turn()
-    return run
 
 
 class CostTest(unittest.TestCase):

@@ -3,27 +3,14 @@
 import random
 import unittest
 
-from helper import Again, places_key, refusal, some_ask, some_tables
+from helper import Again, places_key, refusal, some_ask, some_deed, some_rule, some_tables
 from plansamid.boxes import are_whole, left, met_by, slab_of
 from plansamid.counts import counts_of
 from plansamid.errors import NoRoom
 from plansamid.plainly import plainly
-from plansamid.plans import plans_of
 from plansamid.rules import visit_at
 from plansamid.runs import Run
 from plansamid.tables import Tables
-
-
-def some_rule(chance, ask):
-    return chance.choice((("double",), ("double",), ("stay", chance.randrange(len(plans_of(ask)))),
-                          ("guess", chance.randrange(1, 5)), ("rows", chance.randrange(1, 4))))
-
-
-def some_deed(chance, tables):
-    """A deed that the tables do, or refuse."""
-    name = chance.choice("abc")
-    return refusal(tables.do, chance.choice((("row", name, (chance.randrange(3), chance.randrange(3))),
-                                             ("out", name, chance.randrange(6)))))
 
 
 class HistoryTest(unittest.TestCase):

@@ -20,6 +20,14 @@ FUNCTIONS = {
     "rules": ["is_rule(ask, thing)", "visit_at(ask, rule, counts, k)"],
     "visits": ["begun(tables, ask, plan, *, moment=None, rooms=20)"],
     "hindsight": ["cost(tables, ask, plan, *, moment=None, rooms=20, starts=None)", "hindsight(run)", "share(run)"],
+    "stands": ["stand_of(run)", "taken_up(tables, stand, *, watcher=None)"],
+    "looker": ["lets_answer(tables, ask, thing, *, moment=None)", "lets_slabs(run, thing)"],
+    "whys": ["became(run, places)", "why_not(tables, ask, places, *, moment=None)",
+             "lets_why(tables, ask, places, thing, *, moment=None)"],
+    "small": ["small_tables(ask, most)", "held_together(ask, rule, rule2, *, most=1)", "worst(ask, *, most=1)"],
+    "texts": ["show_part(part)", "show_sieve(sieve)", "show_ask(ask)", "show_tables(tables)"],
+    "reader": ["read_part(text)", "read_sieve(text)", "read_ask(text)", "read_tables(text)"],
+    "standtexts": ["show_stand(stand)", "show_house(house)", "read_stand(text)", "read_house(text)"],
 }
 METHODS = {
     ("tables", "Tables"): ["__init__(self, deeds=())", "do(self, deed)", "moment(self)",
@@ -35,6 +43,12 @@ METHODS = {
                       "lend_hand(self, n)", "call_back_hand(self, n)", "is_done(self)", "__len__(self)",
                       "__repr__(self)"],
     ("kept", "Kept"): ["__init__(self)", "want(self, table, column, moment, now)"],
+    ("house", "House"): ["__init__(self, *, rooms=100)", "do(self, deed)", "tables(self)",
+                         "begin(self, name, ask, *, rule=('double',), rooms=20, hand=8, along=False)",
+                         "turn(self, name)", "share(self, table)", "run(self, name)", "names(self)",
+                         "next_row(self, table)", "saved(self)", "lend(self, name, n)", "call_back(self, name, n)",
+                         "let_go(self, name)", "stop(self, name)", "take_up(self, name, stand)", "__len__(self)"],
+    ("desk", "Desk"): ["__init__(self)", "say(self, row)"],
 }
 
 

@@ -1,6 +1,6 @@
 import unittest
 
-from helper import refusal
+from helper import refusal, state
 from plansamid.errors import Busy, Done, NoRoom
 from plansamid.plainly import plainly
 from plansamid.runs import Run
@@ -21,12 +21,6 @@ STRUCK = (SOURCES, (), ("rows", (cell("p", "x"),)), (), None, True)
 
 class Stop(Exception):
     """What a watcher raises here."""
-
-
-def state(run):
-    """All that a run tells."""
-    return (run.looks(), run.steps(), run.rooms(), run.hand(), run.moment(), run.slabs(), run.visits(), run.now_plan(),
-            run.starts(), run.told(), run.is_done(), len(run), repr(run), run.answer() if run.is_done() else None)
 
 
 def watched(ask, watcher, **more):
