@@ -3,17 +3,15 @@
 import random
 import unittest
 
-from helper import Again, places_key, refusal, some_ask, some_deed, some_rule, some_tables
-from plansamid.boxes import are_whole, left, met_by, slab_of
+from helper import Again, RunChecks, places_key, refusal, some_ask, some_deed, some_rule, some_tables
 from plansamid.counts import counts_of
 from plansamid.errors import NoRoom
-from plansamid.plainly import plainly
 from plansamid.rules import visit_at
 from plansamid.runs import Run
 from plansamid.tables import Tables
 
 
-class HistoryTest(unittest.TestCase):
+class HistoryTest(unittest.TestCase, RunChecks):
 
     def history(self, seed, loans):
         """A run, and the same once more, made by a seeded chance."""
@@ -73,39 +71,6 @@ class HistoryTest(unittest.TestCase):
         self.assertEqual((run.slabs(), run.steps(), run.rooms(), run.hand(), run.is_done()),
                          (again.slabs(), again.steps, again.rooms, again.hand, again.done))
         self.assertEqual(run.now_plan(), again.visits[-1][0] if again.open else None)
-
-    def check_end(self, run, tables, moment):
-        """What all turns told is the plain answer, whatever was done to the run's tables since."""
-        ask = run.ask()
-        rows, faults = plainly(tables, ask, moment=moment)
-        self.assertEqual(run.answer(), (rows, faults))
-        told = run.told()
-        self.assertEqual(sorted(one for one in told if one[0] == "fault"),
-                         sorted(("fault", what, places) for places, what in faults))
-        mine = [one[1:] for one in told if one[0] == "row"]
-        self.assertEqual(len(run), len(rows))
-        firsts = [(worths, founds[0]) for worths, founds in rows]
-        if ask[3] != () or ask[4] is not None or ask[2][0] == "groups":
-            self.assertEqual(mine, firsts)
-        elif ask[5]:
-            founds_of = dict(rows)
-            self.assertEqual(len(set(worths for worths, _ in mine)), len(mine))
-            self.assertTrue(all(places in founds_of[worths] for worths, places in mine))
-        else:
-            self.assertEqual(sorted(mine, key=lambda one: places_key(one[1])), firsts)
-
-    def check_slabs(self, run, tables, moment):
-        """Each combination is met in just one slab, and all are."""
-        sizes = [len(tables.rows(table, moment=moment)) for way, _, table, _ in run.ask()[0] if way == "with"]
-        slabs = run.slabs()
-        self.assertIs(are_whole(sizes, slabs), True)
-        choices = 1
-        for size in sizes:
-            choices *= size
-        self.assertEqual(sum(met_by(sizes, slabs)), choices)
-        if choices:
-            self.assertIn(0, left(sizes, slabs))
-            self.assertEqual(slab_of(slabs, tuple(size - 1 for size in sizes)), len(slabs) - 1)
 
     def test_turn_by_turn(self):
         for seed in range(150):
