@@ -1,3 +1,4 @@
+import copy
 import random
 import unittest
 
@@ -74,6 +75,14 @@ class LetsAnswerTest(unittest.TestCase):
             for thing in THINGS + [([], [], []), [[], []], ((), ()), ([], ()), ({}, []), ([None], []), ([()], []),
                                    ([((1, 3),)], []), ([], [None])]:
                 self.assertIs(lets_answer(TABLES, ask, thing), False, thing)
+
+    def test_what_is_handed_in_stays_as_it_is(self):
+        thing = copy.deepcopy(ANSWER)
+        lets_answer(TABLES, ASK, thing)
+        self.assertEqual(thing, ANSWER)
+        run, slabs = Run(TABLES, ASK), [(0, 2), (1, 2), (0, 1)]
+        lets_slabs(run, slabs)
+        self.assertEqual((slabs, run.looks()), ([(0, 2), (1, 2), (0, 1)], 0))
 
     def test_rows_that_are_true_for_numbers(self):
         ask = ((("with", "q", "b", ()),), (), ("rows", (cell("q", "z"),)), (), None, False)

@@ -256,6 +256,9 @@ class NoTablesTest(LineCase):
                      "out a " + "9" * 30, "out row 1"):
             self.check_line(line)
 
+        for line in ("out a 0 0", "out a 0 1", "row a 1 1", "out a 0 ", "out a  0"):
+            self.check_line(line, "table a x\nrow a 1\nrow a 2\n")
+
     def test_an_empty_line(self):
         self.check(read_tables, "\n", 0)
         self.check(read_tables, TABLES_TEXT + "\n", TABLES_TEXT.count("\n"))

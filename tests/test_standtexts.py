@@ -210,6 +210,9 @@ class HouseTest(TextCase):
         for thing in NO_TEXTS:
             error = refusal(read_house, thing)
             self.assertEqual((error.__class__, error.line), (NoText, 0))
+        for text, line in (("", 0), ("rooms 3", 0), ("rooms 3\ntable a x\nrow", 2)):
+            error = refusal(read_house, text)
+            self.assertEqual((error.__class__, error.line), (NoText, line))
 
     def test_by_chance(self):
         for seed in range(40):

@@ -252,6 +252,13 @@ class BecameTest(unittest.TestCase):
         self.assertEqual([became(run, places) for places in ((0, 0), (0, 4), (2, 0))],
                          [("row", 0), ("gone", 1), ("gone", 0)])
 
+    def test_amid_a_turn_it_is_told_as_the_turn_leaves_it(self):
+        heard = []
+        run = Run(TABLES, ask_of(), rule=("stay", 0), watcher=lambda told: heard.append(became(run, (0, 0))))
+        run.turn()
+        run.turn()
+        self.assertEqual(heard, [("yet",), ("row", 0)])
+
     def test_where_a_source_has_no_row(self):
         tables = Tables(DEEDS + [("table", "e", ("x",))])
         run = Run(tables, ask_of((P, ("with", "q", "e", ()))))
